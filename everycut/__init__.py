@@ -1,0 +1,1 @@
+"""Everycut: a tree of files that stands every cut."""

@@ -1,0 +1,1 @@
+"""Names, cells and checks that all other parts use."""

@@ -1,0 +1,1 @@
+"""What lies outside of the program: disks, blocks on them, and pairs of disks."""

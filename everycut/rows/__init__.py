@@ -1,0 +1,1 @@
+"""Rows, the cells and search trees that tell them, and room for these."""

@@ -215,6 +215,16 @@ class Outcomes(Case):
             self.check(disk, 5)
             self.check(disk, 4)
 
+    def test_the_first_and_the_last_place(self):
+        disk = Disk(fresh_picture(24))
+        for at in (0, 23):
+            disk.write(at, made_block(at, 1, (3,)))
+            self.same(outcomes(disk, at), (("blank",), ("torn",), ("whole", 1, (3,))))
+            cut = cut_for_outcome(disk, at, ("whole", 1, (3,)))
+            self.same(cut, {(at, part): 0 for part in range(4)})
+            self.assertIs(is_cut_for_outcome(disk, at, ("whole", 1, (3,)), cut), True)
+            self.assertIs(is_cut_for_outcome(disk, at, ("torn",), cut), False)
+
     def test_cuts_of_other_places_do_not_matter(self):
         disk = Disk(fresh_picture(24))
         disk.write(5, made_block(5, 1, (3,)))

@@ -205,6 +205,18 @@ class Disks(Case):
         twin.lose(5, 3)
         self.same([behind.read(5), twin.read(5)[:3]], [OLD, NEW[:3]])
 
+    def test_copied_with_what_is_settled(self):
+        for size in (24, 25, 240):
+            picture = put_sector(with_block(fresh_picture(size), size - 1, NEW), (3, 0), None)
+            disk = Disk(picture)
+            disk.write(5, OLD)
+            twin = disk.copied()
+            self.same([twin.settled, twin.rows, twin.size], [picture, disk.rows, size])
+            self.assertTrue(twin == disk)
+            twin.flush()
+            twin.lose(size - 1, 1)
+            self.same([disk.settled, disk.read(5)], [picture, OLD])
+
     def test_equal(self):
         one, other = Disk(EMPTY), Disk(EMPTY)
         self.assertTrue(one == other)
@@ -358,7 +370,8 @@ class Scripts(Case):
         for script in (good * 50 + (("flush",),), list(good), (("write", 24, NEW),), (("write", -1, NEW),),
                        (("write", 0, (None,) + NEW[1:]),), (("write", 0, NEW[:3]),), (("write", 0),),
                        (("write", 0, NEW, 1),), (("flush", 0),), (("lose", 0),), (("lose", 0, 4),), (("lose", 24, 0),),
-                       (("lose", True, 0),), (("lose", 0, False),), (("read", 0),), ((),), (["flush"],), ("flush",),
+                       (("lose", True, 0),), (("lose", 0, False),), (("lose", -1, 0),), (("lose", 0, -1),),
+                       (("lose", 0, 0, 0),), (("gain", 0, 0),), (("write", 0, 0),), (("lose", 0, NEW),), (("read", 0),), ((),), (["flush"],), ("flush",),
                        (("write", True, NEW),), None, {}, (("write", 0, ((True,), (), (), ())),), (("Flush",),)):
             self.assertIs(is_script(EMPTY, script), False)
             self.refuses(InvalidOperation, None, lambda: run_script(EMPTY, script))
@@ -403,6 +416,8 @@ class Scripts(Case):
         self.assertIs(is_moment_of(EMPTY, script, EMPTY, (2, {})), False)
         for value in ((0, {}, 0), [0, {}], (True, {}), (-1, {}), (6, {}), (0, None), (0, {(5, 0): 0}), 0, None, {}, (None, {})):
             self.assertIs(is_moment_of(EMPTY, script, EMPTY, value), False)
+        for value in ((-1, {}), (-2, {}), (2, {}), (False, {})):
+            self.assertIs(is_moment_of(EMPTY, (("write", 5, NEW),), EMPTY, value), False)
         goal = put_sector(EMPTY, (5, 0), (1, 2))
         self.assertIs(is_moment_of(EMPTY, script, goal, (1, {(5, 0): 0, (5, 2): 0})), True)
         self.refuses(InvalidOperation, None, lambda: moment_of(EMPTY, script, fresh_picture(25)))

@@ -407,6 +407,22 @@ class Behind(Case):
         for value in ([every, every], (every,), (every, every, every), (every, {(5, 0): 1}), ({(5, 0): False}, every),
                       ({(6, 0): 0}, every), (every, None), every, None):
             self.assertIs(are_cuts_for_told(pair, 5, told, value), False)
+        for near in (("whole", True, (1, 2)), ("whole", 1, (True, 2)), ("whole", 1, [1, 2]), ["whole", 1, (1, 2)]):
+            self.assertIs(are_cuts_for_told(pair, 5, near, (every, every)), False)
+            self.assertIsNone(cuts_for_told(pair, 5, near))
+
+    def test_the_first_and_the_last_place(self):
+        for size, at in ((24, 0), (24, 23), (240, 0), (240, 239)):
+            pair = fresh_pair(size)
+            self.same(pair.write_block(at, (1,)), 1)
+            told = ("whole", 1, (1,))
+            self.same(told_behind_cuts(pair, at), (("blank",), ("torn",), told))
+            found = cuts_for_told(pair, at, told)
+            self.assertIs(are_cuts_for_told(pair, at, told, found), True)
+            self.assertIs(are_cuts_for_told(pair, at, told, ({}, {})), False)
+            self.same([pair.read_block(at), pair.unlike(at), pair.mend(at), pair.is_borne(0, at, 0)], [told, False, (), False])
+            pair.flush()
+            self.same(pair.is_borne(1, at, 3), True)
 
 
 def told_at_some(pair):

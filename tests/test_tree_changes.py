@@ -235,6 +235,24 @@ class Judged(Case):
         for value in anything():
             self.near(value, False)
 
+    def test_right_rows_in_a_tree_with_faults(self):
+        free = (100, 101, 102, 103)
+        # A leaf of four rows at the top, a leaf of one row, a top with one member, a node that is lost.
+        four = node_cells(0, [((at,), (1,)) for at in range(4)])
+        self.judge({}, 0, {(at,): (1,) for at in range(4)}, free, (100, {100: four}), False)
+        pair = {101: node_cells(0, [((0,), (1,)), ((1,), (1,))]), 102: node_cells(0, [((2,), (1,)), ((3,), (1,))])}
+        top = node_cells(1, [((0,), 101), ((2,), 102)])
+        self.judge({}, 0, {(at,): (1,) for at in range(4)}, free, (100, {100: top, **pair}), True)
+        one = {101: node_cells(0, [((0,), (1,)), ((1,), (1,)), ((2,), (1,))]), 102: node_cells(0, [((3,), (1,))])}
+        top = node_cells(1, [((0,), 101), ((3,), 102)])
+        self.judge({}, 0, {(at,): (1,) for at in range(4)}, free, (100, {100: top, **one}), False)
+        top = node_cells(1, [((0,), 101)])
+        self.judge({101: pair[101]}, 101, {}, free[2:], (100, {}), False)
+        self.judge({101: pair[101], 99: top}, 101, {}, free[2:], (99, {}), False)
+        top = node_cells(1, [((0,), 101), ((2,), 102), ((9,), 103)])
+        self.judge({}, 0, {(at,): (1,) for at in range(5)}, free,
+                   (100, {100: top, 101: pair[101], 102: node_cells(0, [((at,), (1,)) for at in (2, 3, 4)])}), False)
+
     def test_true_is_no_place(self):
         # A place 1 can never be free, so True as the root or as a place is refused in any case; 0 and False too.
         self.judge({}, 0, {}, (), (0, {}), True)

@@ -5,6 +5,7 @@ from helpers import LEFT, RIGHT, TOP, Arg, Case, WrongCase, is_int, number
 from everycut.errors import InvalidBlock, InvalidRow, Refused
 from everycut.rows import trees
 from everycut.rows.cells import is_key
+from everycut.rows.room import reached_by
 from everycut.rows.trees import (
     is_tree_change, most_blocks, most_fresh, most_level, node_told, tree_between, tree_blocks, tree_changed, tree_fault,
     tree_get, tree_rows, tree_scan)
@@ -54,7 +55,11 @@ class Nodes(Case):
         for level in range(5):
             self.same(node_told((level, 0)), (level, ()))
             self.same(node_told((level, 1, 1, 5, 1, 7)), (level, (((5,), (7,)),)))
-            self.same(node_told((level, 1, 3, 5, 6, 7, 1, LAST)), (level, (((5, 6, 7), (LAST,)),)))
+            self.same(node_told((level, 1, 3, LAST, 6, 7, 1, 239)), (level, (((LAST, 6, 7), (239,)),)))
+            # At the level 0 the value of a member is no place.
+            for cell in (240, LAST):
+                told = (0, (((5,), (cell,)),)) if level == 0 else None
+                self.same(node_told((level, 1, 1, 5, 1, cell)), told)
         self.same(node_told((0, 1, 1, 5, 8) + (7,) * 8), (0, (((5,), (7,) * 8),)))
         wide = node_cells(4, [((1, 1, at), at) for at in range(8)])
         self.same([len(wide), node_told(wide)[1][7]], [50, ((1, 1, 7), (7,))])
@@ -72,7 +77,7 @@ class Nodes(Case):
         for _ in range(3000):
             some = [rng.randrange(3), rng.randrange(3)]
             for _ in range(rng.randrange(4)):
-                some += rng.choice(([1, rng.randrange(3), 1, 5], [2, rng.randrange(3), 0, 1, 5], [rng.randrange(4)]))
+                some += rng.choice(([1, rng.randrange(3), 1, rng.choice((5, 239, 240))], [2, rng.randrange(3), 0, 1, 5], [rng.randrange(4)]))
             told = told_node(tuple(some))
             self.same(node_told(tuple(some)), None if told is None else (told[0], tuple(told[1])))
 
@@ -170,7 +175,17 @@ class Faults(Case):
 
     def test_a_place_that_is_none(self):
         for place in (240, LAST):
-            self.faults({7: RIGHT, 9: node_cells(1, [((1,), place), ((5,), 7)])}, 9, (("lost", place),))
+            for top in (node_cells(1, [((1,), place), ((5,), 7)]), node_cells(1, [((1,), 6), ((5,), place)])):
+                blocks = {6: LEFT, 7: RIGHT, 9: top}
+                self.assertIsNone(node_told(top))
+                self.faults(blocks, 9, (("cells", 9),))
+                self.same(tree_scan(blocks, 9), ((), (), (("cells", 9),)))
+                self.refuses(Refused, ("cells", 9), lambda: tree_rows(blocks, 9))
+                self.refuses(Refused, ("cells", 9), lambda: tree_get(blocks, 9, (5,)))
+                self.refuses(Refused, ("cells", 9), lambda: tree_changed(blocks, 9, {}, ()))
+                self.refuses(Refused, ("cells", 9), lambda: reached_by(blocks, (7, 9)))
+        self.faults({7: RIGHT, 9: node_cells(1, [((1,), 239), ((5,), 7)])}, 9, (("lost", 239),))
+        self.faults({7: RIGHT, 9: node_cells(1, [((1,), 239), ((5,), 7)]), 239: LEFT}, 9, ())
         self.faults({9: node_cells(1, [((1,), 0), ((5,), 7)]), 7: RIGHT, 0: LEFT}, 9, ())
         self.same(tree_blocks({9: node_cells(1, [((1,), 0), ((5,), 7)]), 7: RIGHT, 0: LEFT}, 9), (0, 7, 9))
 

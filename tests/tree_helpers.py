@@ -82,7 +82,7 @@ def told_node(cells):
     members = told_rows(cells[2:])
     if members is None or len(members) != cells[1]:
         return None
-    if cells[0] > 0 and any(len(value) != 1 for _, value in members):
+    if cells[0] > 0 and any(len(value) != 1 or value[0] > 239 for _, value in members):
         return None
     return cells[0], members
 

@@ -39,6 +39,11 @@ def check_root(root):
     check_number(root, 0, MOST_BLOCKS - 1)
 
 
+def _is_place(value):
+    """Whether the value of a row is one cell, the place of a node."""
+    return len(value) == 1 and value[0] < MOST_BLOCKS
+
+
 def node_in_cells(cells):
     """The pair of the level and the members of a node, None if the cells tell none; they were checked."""
     if len(cells) < 2 or cells[0] > MOST_LEVEL:
@@ -46,8 +51,7 @@ def node_in_cells(cells):
     members = rows_in_cells(cells[2:])
     if members is None or len(members) != cells[1]:
         return None
-    # Above the leaves the value of a member is the place of a node.
-    if cells[0] > 0 and not all([len(member[1]) == 1 for member in members]):
+    if cells[0] > 0 and not all([_is_place(value) for _, value in members]):
         return None
     return (cells[0], members)
 

@@ -56,13 +56,17 @@ def name_cell(name):
     return cell
 
 
-def cell_name(cell):
-    """The name with this cell."""
-    if not is_cell(cell):
-        raise InvalidNumber(cell)
+def name_of_cell(cell):
+    """The name with a cell, None if it is the cell of no name."""
     name = _letters_of(cell)
     # A nought ahead of a letter, or a ninth figure, is lost in the letters.
-    if not is_name(name) or name_cell(name) != cell:
+    return name if is_name(name) and name_cell(name) == cell else None
+
+
+def cell_name(cell):
+    """The name with this cell."""
+    name = name_of_cell(cell) if is_cell(cell) else None
+    if name is None:
         raise InvalidNumber(cell)
     return name
 

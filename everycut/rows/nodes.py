@@ -76,12 +76,13 @@ def _do_keys_fit(members, low, high):
 
 
 class Scan:
-    """The nodes below a root that are taken, their rows, and all faults in their sequence."""
+    """The nodes below a root that are taken, leaves among them, their rows, and all faults in their sequence."""
 
     def __init__(self, blocks):
         self.blocks = blocks
         self.taken = []
         self.places = []
+        self.leaves = []
         self.faults = []
 
     def visit(self, place, above, low, high):
@@ -100,6 +101,7 @@ class Scan:
         level, members = node
         if level == 0:
             self.taken.extend(members)
+            self.leaves.append(place)
             return
         for at, (key, value) in enumerate(members):
             following = members[at + 1][0] if at + 1 < len(members) else high

@@ -1,0 +1,1 @@
+"""Plain trees of folders and files, deeds, and what these wait for."""

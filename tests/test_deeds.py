@@ -47,7 +47,7 @@ class Deeds(Case):
     def test_cuts(self):
         self.all_deeds([("cut", ("a",), 0), ("cut", EIGHT, 96)])
         self.no_deeds([("cut", ("a",), 97), ("cut", ("a",), -1), ("cut", ("a",), False), ("cut", ("a",)), ("cut", ("a",), 0, 0),
-                       ("cut", (), 0), ("cut", ("a",), (0,)), ("cut", ("a",), "0")])
+                       ("cut", (), 0), ("cut", ("a",), (0,)), ("cut", ("a",), "0"), ("keep", ("a",), 0), ("write", ("a",), 0)])
 
     def test_bars(self):
         for word in ("snap", "unsnap", "back"):
@@ -67,6 +67,7 @@ class Deeds(Case):
                            ("all", (first, ("order",))), ("all", (("snap", "a"), first)), ("all", (first, ("unsnap", "a"))),
                            ("all", (first, ("back", "a"))), ("all", (first, ("all", (first, first)))), ("all", (first, None)),
                            ("all", (first, first), 1), ("all", (first, first[:1])), ("all", (first, list(first)))])
+            self.no_deeds([("any", (first, first)), ("order", (first, first)), (None, (first, first))])
         self.no_deeds([("all",), ("all", ()), ("all", None), ("all", {})])
 
     def test_every_value(self):

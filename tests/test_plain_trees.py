@@ -465,6 +465,8 @@ class Faults(Case):
                             ({("kind", 48): "folder", ("name", 64, "g"): 48, ("kind", 64): "folder", ("name", 48, "g"): 64,
                               ("kind", 20): "folder", ("name", 64, "h"): 20}, ("ring", 20))):
             self.fault({**folder, **file, **more}, fault)
+            self.fault({**more, **folder, **file}, fault)
+        self.fault({("kind", 9): "folder", ("name", 9, "g"): 9, **file}, ("ring", 9))
 
     def test_two_at_once(self):
         base = {("kind", 16): "file", ("name", 0, "a"): 16, ("size", 16): 1}

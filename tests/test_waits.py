@@ -281,6 +281,8 @@ class Kinds(Case):
             self.refuses(InvalidNumber, at, lambda: doings.add(at, ("order",)))
         self.same([str(doings_of()), len(doings_of()), str(doings)], ["0 deeds", 0, "3 deeds"])
         self.assertIsInstance(raised(lambda: iter(doings)), TypeError)
+        for at in (0, True, 10 ** 12 + 1, -1, None):
+            self.refuses(InvalidNumber, at, lambda: doings_of().add(at, ("order",)))
         full = doings_of(*[("snap", name) for name in "abcdef"])
         self.refuses(Refused, ("room",), lambda: full.add(7, ("snap", "g")))
 

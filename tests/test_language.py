@@ -267,7 +267,8 @@ class Language(unittest.TestCase):
                         self.say(path, node, "L27")
             for token in tokenize.generate_tokens(io.StringIO(text).readline):
                 if token.type == tokenize.NAME and (token.string in BARRED or re.match(
-                        r"_wall|_pe_|_dcw_|_enum_|_cm_|_twin_re_|_lay_|_law_|_stub_|_sre", token.string)):
+                        r"_wall|_pe_|_dcw_|_enum_|_cm_|_twin_re_|_lay_|_law_|_stub_|_sre|"
+                        r"_(cold|tuplegetter|outside|record|written_out|member_names)(?![a-z])", token.string)):
                     self.say(path, token.start[0], f"L12 L17 {token.string}")
 
     def test_generators_have_names_of_their_own(self):

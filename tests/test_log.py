@@ -135,6 +135,8 @@ class Records(Case):
             self.same(whole_records(3, told), wanted)
             self.same(slow_whole(3, told), wanted)
         self.same(whole_records(4, long + other), {9: ((4,), deed_of(120))})
+        for turn in (1, LAST):
+            self.same(whole_records(turn, short + record_parts((turn, 10, (9,), MAKE))), {10: ((9,), MAKE)})
 
     def test_each_cell_changed(self):
         told = 0
@@ -330,6 +332,31 @@ class Cuts(Case):
                 for numbers in (tuple(read), tuple(records), log.synced):
                     self.assertIs(is_cut_for_records(log, numbers, cuts), numbers == tuple(read))
         self.assertGreater(partial, 50)
+
+    def test_all_cuts_of_one_record(self):
+        for is_elder in (False, True):
+            pair = fresh_pair(24)
+            if is_elder:
+                elder = Log(pair, 4, 1)
+                elder.put(1, (), MAKE)
+                elder.put(2, (), WRITE)
+                elder.sync()
+            log = Log(pair, 4, 2)
+            log.put(1, (), ("order",))
+            log.sync()
+            log.put(2, (1,), MAKE)
+            sectors = [(which, (3, part)) for which in (0, 1) for part in range(4)]
+            many = 0
+            for number_ in range(256):
+                chosen = [sector for at, sector in enumerate(sectors) if number_ >> at & 1]
+                cuts = tuple({sector: 0 for which, sector in chosen if which == side} for side in (0, 1))
+                is_whole = len({sector for _, sector in chosen}) == 4
+                many += is_whole
+                read = read_log(pair.behind(cuts[0], cuts[1]), 4, 2)
+                self.same(read, {1: ((), ("order",)), 2: ((1,), MAKE)} if is_whole else {1: ((), ("order",))})
+                self.assertIs(is_cut_for_records(log, (1, 2), cuts), is_whole)
+                self.assertIs(is_cut_for_records(log, (1,), cuts), not is_whole)
+            self.same(many, 81)
 
     def test_each_lot_can_come(self):
         rng = Random(123)

@@ -138,7 +138,6 @@ def told_head(pair, at):
 
 def found_head(pair):
     """The head that is found, None if there is none."""
-    check_pair(pair)
     return _greater(told_head(pair, 0), told_head(pair, 1))
 
 
@@ -163,7 +162,6 @@ def _told_by_heads(pair):
 
 def heads_that_can_come(pair):
     """The tuple of all that can be found behind cuts of both disks, each once."""
-    check_pair(pair)
     first, last = _told_by_heads(pair)
     found = [_greater(one, other) for one in first for other in last]
     heads = sorted(set([head for head in found if head is not None]))

@@ -67,7 +67,7 @@ def record_parts(record):
     return _parts(record)
 
 
-def _record_in(parts):
+def _joined(parts):
     """The record that is whole among all parts with one turn and one number; None if there is none."""
     ordered = sorted(parts, key=lambda part: part[2:])
     body = tuple([cell for part in ordered for cell in part[PART_MARKS:]])
@@ -87,7 +87,7 @@ def _whole(turn, told):
             groups.setdefault(cells[1], []).append(cells)
     found = {}
     for number in sorted(groups):
-        record = _record_in(groups[number])
+        record = _joined(groups[number])
         if record is not None:
             found[number] = record[2:]
     return found

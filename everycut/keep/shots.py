@@ -6,7 +6,6 @@ from everycut.errors import Refused
 from everycut.errors import UnknownName
 from everycut.keep.heads import HEADS
 from everycut.keep.heads import found_head
-from everycut.outside.pairs import check_pair
 from everycut.plain.coding import facts_told
 from everycut.plain.coding import fault_of_rows
 from everycut.plain.trees import Tree
@@ -22,7 +21,6 @@ def shelf_blocks(pair, log):
 
 def _head_of(pair):
     """The head that is found; raises the errors of the pair."""
-    check_pair(pair)
     head = found_head(pair)
     if head is None:
         raise Refused(("head",))

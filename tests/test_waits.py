@@ -82,7 +82,7 @@ class Waits(Case):
         self.examples(EXAMPLES, {**vars(trees), **vars(reads_module), **vars(waits)})
 
     def test_constants(self):
-        self.same([MOST_DEEDS, MOST_LOTS], [40, 4096])
+        self.same([MOST_DEEDS, MOST_LOTS, reads_module.MOST_DEEDS, reads_module.MOST_LOTS], [40, 4096] * 2)
 
     def waited(self, deeds, wanted):
         self.same(list(doings_of(*deeds).waits.values()), wanted)

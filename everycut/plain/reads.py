@@ -9,6 +9,10 @@ from everycut.plain.effects import part_sets
 from everycut.plain.effects import stages
 from everycut.plain.trees import check_doing
 
+# Bounds of everycut.plain.waits, which has them from here: they are listed for both modules.
+MOST_DEEDS = 40
+MOST_LOTS = 4096
+
 
 def is_bar(value):
     """Whether the value is a deed that is a bar."""

@@ -2,21 +2,20 @@
 
 from everycut.base.checks import check_number
 from everycut.base.checks import is_number
-from everycut.errors import InvalidOperation
 from everycut.errors import InvalidNumber
+from everycut.errors import InvalidOperation
 from everycut.errors import Refused
 from everycut.errors import TooMany
 from everycut.plain.deeds import check_deed
 from everycut.plain.facts import MOST_DOING
+from everycut.plain.reads import MOST_DEEDS
+from everycut.plain.reads import MOST_LOTS
 from everycut.plain.reads import is_bar
 from everycut.plain.reads import reads
 from everycut.plain.reads import sets
 from everycut.plain.trees import check_tree
 from everycut.plain.trees import done
 from everycut.plain.trees import refusal
-
-MOST_DEEDS = 40
-MOST_LOTS = 4096
 
 
 def _are_ascending(value):

@@ -130,6 +130,18 @@ class Shots(Case):
         pair = written(24, 6, 0, tuple((name, 8) for name in SIX), blocks)
         self.same([own_places(pair, SIX), own_places(pair, SIX[1:]), own_places(pair, ("a",))], [(8,), (), ()])
 
+    def test_a_shot_of_what_is_dropped(self):
+        # What the examples of the stage come to, written by hand.
+        tree = done(Tree(), 1, ("make", ("a",)))
+        blocks = {8: node_cells(0, rows_of_tree(tree))}
+        pair = written(40, 6, 8, (("s", 8),), blocks)
+        self.same([shot_names(pair), shot_rows(pair, "s") == rows_of_tree(tree), unlike_leaves(pair, "s", "s"), shot_changes(pair, "s", None)],
+                  [("s",), True, ((), ()), {}])
+        pair = written(40, 6, 0, (("s", 8),), blocks)
+        self.same([own_places(pair, ("s",)), reached_places(pair, "s"), shot_tree(pair, "s").paths(), shot_changes(pair, "s", None)],
+                  [(8,), (8,), (("a",),), {(1, 16): None, (2, 0, 10460353203): None, (3, 16): None}])
+        self.refuses(UnknownName, "t", lambda: shot_rows(pair, "t"))
+
     def test_what_is_read_through_losses(self):
         rng = Random(131)
         for _ in range(10):

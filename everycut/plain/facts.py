@@ -117,8 +117,7 @@ def fault_of(value):
     if not are_forms(value):
         return ("form",)
     kinds = kinds_in(value)
-    for look in (_wrong_names, _wrong_kinds, _wrong_sizes, _wrong_pieces, _lacking_sizes, _wrong_rings):
-        found = look(value, kinds)
-        if found:
-            return min(found)
-    return None
+    found = _wrong_names(value, kinds) or _wrong_kinds(value, kinds) or _wrong_sizes(value, kinds)
+    # Rings are looked for where all entries are right.
+    found = found or _wrong_pieces(value, kinds) or _lacking_sizes(value, kinds) or _wrong_rings(value, kinds)
+    return min(found) if found else None

@@ -5,12 +5,13 @@ from everycut.plain.deeds import MAX_NUMBERS
 from everycut.plain.paths import along
 from everycut.plain.paths import along_parent
 from everycut.plain.paths import below
-from everycut.plain.paths import is_folder
 from everycut.plain.paths import entry_names
+from everycut.plain.paths import is_folder
 from everycut.plain.paths import node_of_path
 
 
 def _make(facts, deed):
+    """What is refused of making a file or a folder."""
     reason = along_parent(facts, deed[1])
     if reason is None and node_of_path(facts, deed[1]) is not None:
         return ("there", deed[1])
@@ -26,6 +27,7 @@ def _along_file(facts, path):
 
 
 def _write(facts, deed):
+    """What is refused of a write."""
     reason = _along_file(facts, deed[1])
     if reason is None and deed[2] + len(deed[3]) > MAX_NUMBERS:
         return ("long",)
@@ -33,6 +35,7 @@ def _write(facts, deed):
 
 
 def _cut(facts, deed):
+    """What is refused of a cut."""
     return _along_file(facts, deed[1])
 
 
@@ -43,6 +46,7 @@ def _along_both(facts, deed):
 
 
 def _link(facts, deed):
+    """What is refused of a link."""
     reason = _along_both(facts, deed)
     if reason is not None:
         return reason
@@ -52,6 +56,7 @@ def _link(facts, deed):
 
 
 def _drop(facts, deed):
+    """What is refused of a drop."""
     reason, node = along(facts, deed[1])
     if reason is None and is_folder(facts, node) and entry_names(facts, node):
         return ("full", deed[1])
@@ -59,6 +64,7 @@ def _drop(facts, deed):
 
 
 def _move(facts, deed):
+    """What is refused of a move."""
     reason = _along_both(facts, deed)
     if reason is not None or deed[1] == deed[2]:
         return reason

@@ -68,6 +68,8 @@ def bound(tree):
             yield node.arg, node
         elif isinstance(node, ast.Name) and isinstance(node.ctx, ast.Store):
             yield node.id, node
+        elif isinstance(node, ast.ExceptHandler) and node.name is not None:
+            yield node.name, node
         elif isinstance(node, ast.ImportFrom):
             for alias in node.names:
                 yield alias.asname or alias.name, node

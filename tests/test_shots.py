@@ -2,10 +2,15 @@ from random import Random
 
 from helpers import Arg, Case, WrongCase, anything, pair_state
 from everycut.errors import InvalidDisk, InvalidOperation, Refused, UnknownName
+from everycut.keep import shots as shots_module
+from everycut.keep import volumes
 from everycut.keep.heads import found_head, write_head
 from everycut.keep.shots import (
     own_places, reached_places, shot_changes, shot_names, shot_rows, shot_tree, unlike_leaves)
+from everycut.keep.volumes import made, mount
+from everycut.outside import pairs
 from everycut.outside.pairs import fresh_pair
+from everycut.plain import coding
 from everycut.plain.coding import rows_fault, rows_of_tree
 from everycut.plain.trees import Tree, done
 from everycut.rows.cells import changes_between, rows_changed
@@ -13,7 +18,25 @@ from everycut.rows.room import free_places
 from everycut.rows.trees import tree_changed
 from pair_helpers import lose_some, pair_arg
 from plain_helpers import Model, some_deed
+from volume_helpers import drawn_behind, drawn_deed, is_refused
 from tree_helpers import node_cells, random_tree, slow_scan, told_node
+
+EXAMPLES = '''
+>>> V = made(fresh_pair(40), 6)
+>>> V.do(("make", ("a",)))
+>>> V.do(("snap", "s"))
+>>> [shot_names(V.pair), reached_places(V.pair, None)]
+[(), ()]
+>>> V.turn()
+>>> [shot_names(V.pair), shot_rows(V.pair, "s") == rows_of_tree(V.tree), unlike_leaves(V.pair, "s", "s"), shot_changes(V.pair, "s", None)]
+[('s',), True, ((), ()), {}]
+>>> V.do(("drop", ("a",)))
+>>> V.turn()
+>>> [own_places(V.pair, ("s",)) == reached_places(V.pair, "s"), len(reached_places(V.pair, "s")), shot_tree(V.pair, "s").paths(), shot_changes(V.pair, "s", None)]
+[True, 1, (('a',),), {(1, 16): None, (2, 0, 10460353203): None, (3, 16): None}]
+>>> shot_rows(V.pair, "t")
+raises UnknownName('t')
+'''
 
 SIX = ("a", "b", "c", "d", "e", "zzzzzzzz")
 
@@ -55,6 +78,43 @@ def leaves(blocks, root):
 
 
 class Shots(Case):
+    def test_examples(self):
+        self.examples(EXAMPLES, {**vars(shots_module), **vars(volumes), **vars(pairs), **vars(coding)})
+
+    def test_shots_of_volumes(self):
+        # A shot tells the tree of which it was made as long as it is there, at the places at which it was written.
+        rng = Random(134)
+        for seed in range(12):
+            volume = made(fresh_pair(90), 8)
+            kept = {}
+            for _ in range(60):
+                kind = rng.randrange(12)
+                if kind == 0:
+                    volume.turn()
+                elif kind == 1:
+                    before = {name: shot_rows(volume.pair, name) for name in shot_names(volume.pair)}
+                    places = {name: reached_places(volume.pair, name) for name in before}
+                    volume = mount(drawn_behind(rng, volume.pair))
+                    # What is not synced can lack: shots that are gone come again, others are not there yet.
+                    kept = {name: [volume.tree.shot(name).facts, reached_places(volume.pair, name)] for name in volume.tree.shots}
+                    for name in kept:
+                        if before.get(name) == shot_rows(volume.pair, name):
+                            self.same(kept[name][1], places[name])
+                else:
+                    deed = drawn_deed(rng, volume.tree, bars=4)
+                    ahead = volume.tree
+                    if is_refused(lambda: volume.do(deed)) is None and deed[0] in ("snap", "unsnap"):
+                        kept = {name: kept[name] for name in kept if name != deed[1]}
+                        if deed[0] == "snap":
+                            kept[deed[1]] = [ahead.facts, None]
+                for name in shot_names(volume.pair):
+                    if name in kept and shot_tree(volume.pair, name).facts == kept[name][0]:
+                        kept[name][1] = kept[name][1] or reached_places(volume.pair, name)
+                        self.same(reached_places(volume.pair, name), kept[name][1])
+                for name in kept:
+                    self.same(volume.tree.shot(name).facts, kept[name][0])
+                    self.same(kept[name][1] is None or name in shot_names(volume.pair), True)
+
     def test_against_the_nodes(self):
         rng = Random(130)
         shared, own = 0, 0

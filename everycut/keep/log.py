@@ -217,6 +217,14 @@ def _read(pair, size, turn):
     return _whole(turn, [one[2] for one in told if one[0] == "whole"])
 
 
+def read_parts(pair, size, turn):
+    """The ascending list of the places of the parts of the whole records of a turn; all was checked."""
+    told = [(at, pair.read_block(at)) for at in range(FIRST_LOG, FIRST_LOG + size)]
+    cells = {at: there[2] for at, there in told if there[0] == "whole"}
+    whole = _whole(turn, list(cells.values()))
+    return [at for at in cells if len(cells[at]) > 1 and cells[at][0] == turn and cells[at][1] in whole]
+
+
 def read_log(pair, size, turn):
     """The whole records of a turn that are read on the pair."""
     _check_log(pair, size, turn)

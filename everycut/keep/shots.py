@@ -19,7 +19,7 @@ def shelf_blocks(pair, log):
     return {at: there[2] for at, there in told if there[0] == "whole"}
 
 
-def _head_of(pair):
+def head_on(pair):
     """The head that is found; raises the errors of the pair."""
     head = found_head(pair)
     if head is None:
@@ -47,7 +47,7 @@ def _sound_scan(blocks, root):
 
 def _scans(pair, names):
     """The scans below the roots of some shots, or of the tree for None; raises all errors."""
-    head = _head_of(pair)
+    head = head_on(pair)
     roots = [_root_of(head, name) for name in names]
     blocks = shelf_blocks(pair, head[1])
     return [_sound_scan(blocks, root) for root in roots]
@@ -55,7 +55,7 @@ def _scans(pair, names):
 
 def shot_names(pair):
     """The ascending tuple of the names of the shots."""
-    return tuple([name for name, root in _head_of(pair)[4]])
+    return tuple([name for name, root in head_on(pair)[4]])
 
 
 def shot_rows(pair, name):
@@ -87,7 +87,7 @@ def _check_names(names):
 
 def own_places(pair, names):
     """The ascending tuple of the places that are own to some shots."""
-    head = _head_of(pair)
+    head = head_on(pair)
     _check_names(names)
     for name in names:
         _root_of(head, name)

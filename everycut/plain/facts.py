@@ -94,22 +94,27 @@ def _lacking_sizes(facts, kinds):
     return [("nosize", node) for node, kind in kinds.items() if kind == "file" and ("size", node) not in facts]
 
 
+def astray(folders, parents):
+    """Those of some folders that do not come from the top one; parents are the folders of their entries."""
+    known = {0: True}
+    for folder in folders:
+        trail = {}
+        node = folder
+        while node is not None and node not in known and node not in trail:
+            trail[node] = True
+            node = parents.get(node)
+        # A trail that ends, or comes back to itself, leads to no top.
+        comes = known.get(node, False)
+        for node in trail:
+            known[node] = comes
+    return [folder for folder in folders if not known[folder]]
+
+
 def _wrong_rings(facts, kinds):
     """The faults of the folders that do not come from the top one; each has just one entry."""
     parents = {node: key[1] for key, node in facts.items() if key[0] == "name"}
-    known = {0: True}
-    for folder in kinds:
-        if kinds[folder] == "folder":
-            trail = {}
-            node = folder
-            while node not in known and node not in trail:
-                trail[node] = True
-                node = parents[node]
-            # A trail that comes back to itself is a ring.
-            comes = known.get(node, False)
-            for node in trail:
-                known[node] = comes
-    return [("ring", node) for node in known if not known[node]]
+    folders = [node for node, kind in kinds.items() if kind == "folder"]
+    return [("ring", node) for node in astray(folders, parents)]
 
 
 def fault_of(value):

@@ -134,6 +134,12 @@ class Tree:
         return f"tree of {len(self)} nodes, {len(self._shots)} shots"
 
 
+def tree_with(facts):
+    """The weighed tree with the facts that stand under None, and with shots of those under the other names."""
+    shots = {name: there for name, there in facts.items() if name is not None}
+    return _held_tree(facts[None], shots, sum([len(there) for there in facts.values()]))
+
+
 def check_tree(tree):
     """Raises InvalidTree unless the value is a tree."""
     if not isinstance(tree, Tree):

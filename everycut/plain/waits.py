@@ -43,7 +43,7 @@ def _check_waits(waits):
         raise InvalidOperation("not numbers with those for which they wait")
 
 
-def _are_numbers_of(waits, value):
+def are_numbers_of(waits, value):
     """Whether the value is an ascending tuple of some of the numbers."""
     return _are_ascending(value) and all([number in waits for number in value])
 
@@ -51,13 +51,13 @@ def _are_numbers_of(waits, value):
 def _check_numbers(waits, numbers):
     """Raises InvalidOperation unless the values are waits and an ascending tuple of numbers of them."""
     _check_waits(waits)
-    if not _are_numbers_of(waits, numbers):
+    if not are_numbers_of(waits, numbers):
         raise InvalidOperation("not ascending numbers of deeds")
 
 
 def is_lower_lot(waits, value):
     """Whether the value is an ascending tuple of numbers that has with each one all those for which it waits."""
-    if not _are_numbers_of(waits, value):
+    if not are_numbers_of(waits, value):
         return False
     return all([ahead in value for number in value for ahead in waits[number]])
 
@@ -102,16 +102,24 @@ def tops(waits, numbers):
     return tuple([number for number in numbers if number not in waited])
 
 
-def lower_lots(waits):
-    """The ascending tuple of all lower lots."""
-    _check_waits(waits)
+def lots_with(waits, held, most):
+    """The ascending tuple of all lower lots that have the numbers of a lower lot; all was checked.
+
+    Raises TooMany for more lots than the most.
+    """
     lots = [()]
     for number in sorted(waits):
         more = [lot + (number,) for lot in lots if all([ahead in lot for ahead in waits[number]])]
-        lots = lots + more
-        if len(lots) > MOST_LOTS:
-            raise TooMany(MOST_LOTS)
+        lots = more if number in held else lots + more
+        if len(lots) > most:
+            raise TooMany(most)
     return tuple(sorted(lots))
+
+
+def lower_lots(waits):
+    """The ascending tuple of all lower lots."""
+    _check_waits(waits)
+    return lots_with(waits, (), MOST_LOTS)
 
 
 class Doings:
@@ -159,22 +167,17 @@ class Doings:
         reason = refusal(self._tree, number, deed)
         if reason is not None:
             raise Refused(reason)
-        ahead = self._ahead_of_bar(number) if is_bar(deed) else self._ahead_of_plain(number, deed)
+        ahead = self.ahead_of(number, deed)
+        self._mark(number, deed)
         self._tree = done(self._tree, number, deed)
         self._deeds[number] = deed
         self._waits[number] = ahead
         return ahead
 
-    def _ahead_of_bar(self, number):
-        """What a bar waits for; it is the last bar from now on."""
-        ahead = self._bar + self._behind
-        self._bar = (number,)
-        self._behind = ()
-        self._writers = {}
-        return ahead
-
-    def _ahead_of_plain(self, number, deed):
-        """What a plain deed waits for; it has set what it sets from now on."""
+    def ahead_of(self, number, deed):
+        """The numbers for which a further deed would wait, which is not refused."""
+        if is_bar(deed):
+            return self._bar + self._behind
         found = {one: True for one in self._bar}
         for key in reads(self._tree, number, deed):
             if key in self._writers:
@@ -183,10 +186,18 @@ class Doings:
                 for there, writer in self._writers.items():
                     if there[0] == "name" and there[1] == key[1]:
                         found[writer] = True
+        return tuple(sorted(found))
+
+    def _mark(self, number, deed):
+        """A further deed is the last bar from now on, or has set what it sets."""
+        if is_bar(deed):
+            self._bar = (number,)
+            self._behind = ()
+            self._writers = {}
+            return
         for key in sets(self._tree, number, deed):
             self._writers[key] = number
         self._behind = self._behind + (number,)
-        return tuple(sorted(found))
 
     def tree_of(self, lot):
         """The tree behind the deeds of a lower lot."""

@@ -101,7 +101,7 @@ def _check_room(shelf, shots):
         raise InvalidOperation("not a number of rows")
 
 
-def _is_room(shelf, shots, last, now):
+def is_room(shelf, shots, last, now):
     """Whether so many rows fit; the numbers were checked."""
     held = sum([most_blocks(many) for many in shots])
     return held + most_blocks(now) + most_blocks(max(last, now)) <= shelf
@@ -112,16 +112,16 @@ def does_fit(shelf, shots, last, now):
     _check_room(shelf, shots)
     check_number(last, 0, MOST_COUNTED)
     check_number(now, 0, MOST_COUNTED)
-    return _is_room(shelf, shots, last, now)
+    return is_room(shelf, shots, last, now)
 
 
 def most_rows(shelf, shots, last):
     """The greatest number of rows that fits, None if not even 0 does."""
     _check_room(shelf, shots)
     check_number(last, 0, MOST_COUNTED)
-    if not _is_room(shelf, shots, last, 0):
+    if not is_room(shelf, shots, last, 0):
         return None
     now = 0
-    while _is_room(shelf, shots, last, now + 1):
+    while is_room(shelf, shots, last, now + 1):
         now += 1
     return now

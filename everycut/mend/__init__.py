@@ -1,0 +1,1 @@
+"""Looking at what lies on pairs, and mending it."""

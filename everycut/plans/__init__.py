@@ -1,0 +1,1 @@
+"""Plans of flushes: where a disk, told in small, has to be flushed."""

@@ -21,7 +21,7 @@ from mend_helpers import (
     foreign_tree_pair, shelf_of, slow_faults, slow_mended_tree, slow_needed, slow_told, slow_uses, spoilt_pair)
 from pair_helpers import lose_some, pair_arg
 from tree_helpers import node_cells, told_node
-from volume_helpers import dense_tree, drawn_behind, drawn_volume, foreign_pair, seeds, small_tree
+from volume_helpers import dense_tree, drawn_behind, drawn_volume, foreign_pair, seeds, small_tree, steps_taken
 
 EXAMPLES = '''
 >>> SOME = {("kind", 16): "folder", ("name", 0, "a"): 16, ("kind", 32): "file", ("piece", 32, 0): (1, 0, 2, 0, 0, 0, 0, 0), ("name", 0, "b"): 48}
@@ -37,27 +37,6 @@ EXAMPLES = '''
 >>> [faults(P), meaning(P) == V.tree, mend(P), mend(P), meaning(P) == V.tree]
 [(('copies', 2),), True, (('copies', 2),), (), True]
 '''
-
-
-def steps_taken(pair, call):
-    """The steps of the disks that a call takes: (which, place) for a write, (which,) for a flush."""
-    found = []
-    for which, disk in enumerate((pair.one, pair.other)):
-        def write(at, block, which=which, plain=disk.write):
-            plain(at, block)
-            found.append((which, at))
-
-        def flush(which=which, plain=disk.flush):
-            plain()
-            found.append((which,))
-
-        disk.write, disk.flush = write, flush
-    try:
-        call()
-    finally:
-        for disk in (pair.one, pair.other):
-            del disk.write, disk.flush
-    return found
 
 
 def of_leaves(size, log, rows, number=50, records=(), shots=(), first=None):

@@ -18,7 +18,7 @@ from everycut.plain.trees import Tree, done, refusal
 from everycut.plain.waits import Doings, lower_lots
 from pair_helpers import lose_some
 from volume_helpers import (
-    drawn_behind, drawn_deed, drawn_row, drawn_volume, is_refused, lots_of, seeds, steps_of)
+    drawn_behind, drawn_deed, drawn_row, drawn_volume, is_refused, lots_of, seeds, steps_of, steps_taken)
 
 
 class Cuts(Case):
@@ -434,6 +434,48 @@ class Mounting(Case):
             self.same([again.tree == volume.tree, again.number, again.turns, again.pair.is_flushed, again.synced], [True, 2, 2, True, ()])
             self.assertTrue(again.pair is volume.pair)
             self.assertEqual(meaning(again.pair.behind({}, {})), again.tree)
+
+    def test_steps(self):
+        # Flushed, mounting writes no more than a turn; else both disks are flushed ahead of all writing.
+        for synced in (True, False):
+            volume = made(fresh_pair(24), 4)
+            volume.do(("make", ("a",)))
+            if synced:
+                volume.sync()
+            steps = steps_taken(volume.pair, lambda: mount(volume.pair))
+            place = reached_places(volume.pair, None)[0]
+            turn = [(0, place), (1, place), (0,), (1,), (0, 0), (1, 0), (0,), (1,)]
+            self.same(steps, turn if synced else [(0,), (1,)] + turn)
+
+    def test_what_was_stopped_is_mounted_as_it_is(self):
+        # A turn that was stopped is not cut: the head that is found can be one that waits to be flushed.
+        rng = Random(176)
+        unflushed = 0
+        for seed in seeds(0, 4):
+            kept = {}
+
+            def build():
+                volume, account = drawn_volume(Random(seed), 48, 4, many=14, bars=4)
+                kept.update(lots=lots_of(volume, account.doings.start), volume=volume)
+                return volume.pair
+
+            def stopped(many):
+                pair = build()
+                pair.stop_after(many)
+                raised(kept["volume"].turn)
+                pair.stop_after(None)
+                return pair
+
+            for many, _, result in list(steps_of(build, lambda pair: kept["volume"].turn() or 1)):
+                if result is not None:
+                    continue
+                for _, pair, again in steps_of(lambda: stopped(many), mount):
+                    unflushed += found_head(pair)[0] == kept["volume"].turns + 1 and not pair.is_flushed
+                    for _ in range(3):
+                        tree = meaning(drawn_behind(rng, pair))
+                        self.assertTrue(any(tree == there for there in kept["lots"].values()))
+                    self.assertTrue(again is None or again.tree == kept["volume"].tree)
+        self.assertGreater(unflushed, 10)
 
     def test_meaning_writes_nothing(self):
         rng = Random(172)

@@ -195,6 +195,27 @@ def steps_of(build, call, most=400):
     raise AssertionError("more steps than were thought")
 
 
+def steps_taken(pair, call):
+    """The steps of the disks that a call takes: (which, place) for a write, (which,) for a flush."""
+    found = []
+    for which, disk in enumerate((pair.one, pair.other)):
+        def write(at, block, which=which, plain=disk.write):
+            plain(at, block)
+            found.append((which, at))
+
+        def flush(which=which, plain=disk.flush):
+            plain()
+            found.append((which,))
+
+        disk.write, disk.flush = write, flush
+    try:
+        call()
+    finally:
+        for disk in (pair.one, pair.other):
+            del disk.write, disk.flush
+    return found
+
+
 def put_tree(rng, tree, places, dense=False):
     """A root, its blocks, and the places that are left, for a tree written at some places."""
     root, blocks = random_tree(rng, rows_of_tree(tree), places) if not dense else dense_tree(rows_of_tree(tree), list(places))

@@ -121,6 +121,14 @@ class Looking(Case):
                 pair.lose_on(0, at, 3)
         self.same([faults(pair), slow_faults(pair)], [(("copies", 1), ("copies", 2), ("copies", 3), ("copies", 4))] * 2)
 
+    def test_elder_records_of_one_number(self):
+        # What an elder turn put with the number of a whole record is not needed.
+        pair = foreign_pair(40, (5, 6, 50, 0, ()), {}, [(5, 50, (), ("make", ("a",))), (4, 50, (), ("make", ("b",)))])
+        pair.lose_on(1, 3, 0)
+        self.same([pair.unlike(3), faults(pair)], [True, ()])
+        pair.lose_on(1, 2, 0)
+        self.same([faults(pair), slow_faults(pair)], [(("copies", 2),)] * 2)
+
     def test_not_true(self):
         # A pair with unlike copies is not sound; it can mean what it meant.
         volume = made(fresh_pair(24), 4)
@@ -238,6 +246,19 @@ class Mending(Case):
         self.same(mend(pair), (("cells", place),))
         self.same([meaning(pair).paths(), pair.read_block(place)], [(("q",),), told])
 
+    def test_nodes_in_a_ring(self):
+        # Nodes that tell themselves and one another: all of them are told, none is written.
+        first = ROWS[0][0]
+        blocks = {8: node_cells(2, [(first, 9), ((5,), 8)]), 9: node_cells(1, [(first, 10), ((3,), 12)]), 10: node_cells(0, ROWS[:2]), 12: node_cells(3, [((3,), 13), ((4,), 8)]),
+                  13: node_cells(1, [((3,), 14), ((4,), 12)])}
+        pair = foreign_pair(30, (5, 6, 50, 8, ()), blocks)
+        self.same([faults(pair), slow_told(pair, found_head(pair))], [slow_faults(pair), {8, 9, 10, 12, 13, 14}])
+        told = [pair.read_block(at) for at in (8, 9, 10, 12, 13, 14)]
+        wanted = slow_mended_tree(pair)
+        mend(pair)
+        self.same([pair.read_block(at) for at in (8, 9, 10, 12, 13, 14)], told)
+        self.same([is_sound(pair), meaning(pair) == wanted, found_head(pair)[3] in (8, 9, 10, 12, 13, 14)], [True, True, False])
+
     def test_sound_mended_and_equal_rows(self):
         # A shot that shares the rows of the tree: what is mended is written once.
         pair, place = of_leaves(40, 6, ROWS, shots=(("s", 8), ("t", 8)))
@@ -284,6 +305,17 @@ class Room(Case):
                     self.same(mend(pair), (("lost", 8),))
                     self.assertEqual(meaning(pair), wanted)
                     self.same([is_sound(pair), wanted.facts == tree.facts], [True, True])
+
+    def test_values_of_rows_are_no_places(self):
+        # The entry of the node 16 tells no block: the place 16, the last one that is free, is written.
+        rows = rows_of_tree(small_tree(("make", ("a",))))
+        self.same([rows[1], most_blocks(3)], [((2, 0, 27 ** 7), (16,)), 1])
+        large = rows_of_tree(small_tree(*[("folder", (name,)) for name in "abcdefghijklmnop"]))
+        root, blocks = dense_tree(large, [at for at in range(9, 24) if at != 16])
+        self.same(len(blocks), 14)
+        blocks = {**blocks, 6: node_cells(1, [(rows[0][0], 7), ((8,), 8)]), 7: node_cells(0, rows)}
+        pair = foreign_pair(24, (5, 4, 50, 6, (("s", root),)), blocks)
+        self.same([mend(pair), reached_places(pair, None), is_sound(pair)], [(("lost", 8),), (16,), True])
 
     def dense_shot(self, places):
         """A tree of folders that takes just about so many places, and is sound."""

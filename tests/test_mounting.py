@@ -103,6 +103,10 @@ class Refusing(Case):
             ({12: leaf([((7,), (1,)), ((8,), (1,))])}, 12, (), ("rows", ("row", (7,)))),
             ({12: leaf([((1, 16), (1,))])}, 12, (), ("rows", ("kind", 16))),
             ({12: leaf([((2, 0, 27 ** 7), (16,))])}, 12, (), ("rows", ("name", 0, "a"))),
+            # The first fault of several, in the sequence of [6.2]; one of a node ahead of one of rows.
+            ({12: node_cells(1, [(ROWS[0][0], 14), (ROWS[2][0], 13)])}, 12, (), ("rows", ("lost", 14))),
+            ({12: node_cells(1, [((1, 16), 13), ((7,), 14)]), 13: leaf([((1, 16), (2,)), ((2, 0, 1), (1,))]), 14: (5,)}, 12, (), ("rows", ("cells", 14))),
+            ({12: leaf([((1, 16), (2,)), ((3, 16), (97,))])}, 12, (), ("rows", ("row", (1, 16)))),
             # The root first, and then the shots, by names.
             ({12: whole}, 12, (("a", 12), ("b", 13), ("c", 14)), ("rows", ("lost", 13))),
             ({12: whole, 13: (3,)}, 14, (("a", 13),), ("rows", ("lost", 14))),
@@ -145,6 +149,12 @@ class Refusing(Case):
         self.same(meaning(pair).rows, 32)
         self.refuses(NoRoom, most_blocks(32), lambda: mount(pair))
         self.assertEqual(pair_state(pair), before)
+        # A deed without growth is not asked for room, also where there is none.
+        pair = foreign_pair(24, head, blocks)
+        volume = mount(pair)
+        for deed in (("drop", ("a",)), ("order",)):
+            volume.do(deed)
+        self.same([volume.turns, volume.deeds, meaning(pair) == volume.tree], [5, {50: ("drop", ("a",)), 51: ("order",)}, True])
         # A shot is asked for ahead of the tree.
         pair = foreign_pair(24, head, blocks, [(4, 50, (), ("folder", ("z",))), (4, 51, (50,), ("snap", "s")), (4, 52, (51,), ("drop", ("z",))), (4, 53, (51,), ("drop", ("a",)))])
         self.refuses(NoRoom, most_blocks(32), lambda: mount(pair))

@@ -32,11 +32,11 @@ class Shelf:
         most = most_blocks(len(wanted))
         if len(self.spare) < most:
             raise NoRoom(most)
-        top, fresh = grown(self.blocks, root, unlike, self.spare)
-        for place, cells in fresh.items():
+        top, nodes = grown(self.blocks, root, unlike, self.spare)
+        for place, cells in nodes.items():
             self.blocks[place] = cells
             self.fresh[place] = cells
-        self.spare = [place for place in self.spare if place not in fresh]
+        self.spare = [place for place in self.spare if place not in nodes]
         self.grounds.append((name, top, wanted))
         return top
 

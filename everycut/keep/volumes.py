@@ -194,12 +194,10 @@ class Volume:
         tree = self._doings.tree
         snaps = []
         for at, deed in enumerate(deeds):
-            reason = refusal(tree, self._next + at, deed)
-            if reason is not None:
-                raise Refused(reason)
+            behind = done(tree, self._next + at, deed)
             if deed[0] == "snap":
-                snaps.append(growth(tree, self._next + at, deed))
-            tree = done(tree, self._next + at, deed)
+                snaps.append(len(tree.facts))
+            tree = behind
         if not self._fits(snaps, len(tree.facts)):
             self.turn()
             if not self._fits(snaps, len(tree.facts)):

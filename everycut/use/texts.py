@@ -163,9 +163,7 @@ def _sector_told(word):
     at, _, behind = word.partition(".")
     part, _, index = behind.partition("=")
     found = (word_number(at, MOST_BLOCKS - 1), word_number(part, PARTS - 1), word_number(index, MOST_CUT_INDEX))
-    if None in found or f"{at}.{part}={index}" != word:
-        return None
-    return (found[:2], found[2])
+    return None if None in found else (found[:2], found[2])
 
 
 def _member_text(member):
